@@ -1,0 +1,1 @@
+"""Teams: matches, Swiss rounds without a repeat, knock-outs."""
