@@ -1,13 +1,15 @@
 """The calls on one event: each is looked at, carried out and answered."""
 
 from teamrounds.bounds import by_twos, split_calls
-from teamrounds.pairings import fault, next_round, not_named
+from teamrounds.knockout import KnockOut
+from teamrounds.pairings import fault, next_round, not_named, pairings_left, row_cost
 from teamrounds.rounds import Event, Round
-from teamrounds.scores import match_points, match_units
+from teamrounds.scores import board_units, match_points, match_units
 
 OUT_OF_RANGE = -1
 NO_TEAMS = -2
 NOT_WHOLE = -3
+NO_KNOCK_OUT = -4
 NOT_THERE = -5
 MAY_NOT_BE = -6
 NO_PAIRING = -7
@@ -83,10 +85,66 @@ def answer_met(event, call):
     return [0, event.met_in(call.numbers[0], call.numbers[1])]
 
 
+def answer_left(event, call):
+    return [0, pairings_left(event)]
+
+
+def answer_check(event, call):
+    found = fault(event, call.row)
+    return [0, found, row_cost(event, call.row) if found == 0 else 0]
+
+
+def answer_points(event, call):
+    units = call.numbers[0]
+    return [0, match_points(units), match_points(-units)]
+
+
+def answer_units(event, call):
+    return [0, board_units(call.numbers[0])]
+
+
+def answer_knock(event, call):
+    size = call.numbers[0]
+    if size > event.size:
+        return [NOT_THERE]
+    event.knock_out = KnockOut([place.team for place in event.standing()[:size]])
+    return [0, len(event.knock_out.row)]
+
+
+def answer_row(event, call):
+    found = event.knock_out
+    if found is None:
+        return [NO_KNOCK_OUT]
+    return [0, len(found.row)] + found.row + [len(found.won)] + found.won
+
+
+def answer_win(event, call):
+    found = event.knock_out
+    if found is None:
+        return [NO_KNOCK_OUT]
+    if not found.may_win(call.numbers[0]):
+        return [NOT_THERE]
+    found.win(call.numbers[0])
+    return [0, len(found.row), found.row[0] if len(found.row) == 1 else 0]
+
+
+def answer_round_of(event, call):
+    found = event.round_of(call.numbers[0])
+    if found is None:
+        return [NOT_THERE]
+    told = [0, found.sits_out, len(found.matches)]
+    for one in found.matches:
+        told.extend([one.first, one.second])
+        told.extend([0, 0] if one.units is None else [1, one.units])
+    return told
+
+
 # By the call's number.
 ANSWERING = (
     answer_teams, answer_pair, answer_draw, answer_own,
     answer_match, answer_result, answer_standing, answer_met,
+    answer_left, answer_check, answer_points, answer_units,
+    answer_knock, answer_row, answer_win, answer_round_of,
 )
 # The calls that are answered when there are no teams: teams, points and units.
 WITHOUT_TEAMS = (0, 10, 11)
@@ -98,9 +156,6 @@ def answer_call(event, call):
         return [OUT_OF_RANGE]
     if event.size == 0 and call.kind not in WITHOUT_TEAMS:
         return [NO_TEAMS]
-    if call.kind >= len(ANSWERING):
-        # Not built yet: no number is answered, and the walk goes on behind the call.
-        return []
     answering = ANSWERING[call.kind]
     return answering(event, call)
 

@@ -58,16 +58,21 @@ class Place:
 
 
 class Event:
-    """The teams 1 to size and their rounds, in order. Of size 0: there are no teams."""
+    """The teams 1 to size, their rounds, in order, and their knock-out, None if there's none.
+
+    Of size 0: there are no teams.
+    """
 
     def __init__(self):
         self.size = 0
         self.rounds = []
+        self.knock_out = None
 
     def begin(self, size):
         """Make this a new event of so many teams."""
         self.size = size
         self.rounds = []
+        self.knock_out = None
 
     def is_whole(self):
         """Whether a new round may follow: there is no round yet, or the last is whole."""
@@ -76,11 +81,16 @@ class Event:
     def is_full(self):
         return len(self.rounds) == MOST_ROUNDS
 
-    def match_of(self, number, a, b):
-        """The match of a and b in the round with this number; None if there's none, or no such round."""
+    def round_of(self, number):
+        """The round with this number; None if there's none."""
         if number < 1 or number > len(self.rounds):
             return None
-        return self.rounds[number - 1].match_of(a, b)
+        return self.rounds[number - 1]
+
+    def match_of(self, number, a, b):
+        """The match of a and b in the round with this number; None if there's none, or no such round."""
+        found = self.round_of(number)
+        return None if found is None else found.match_of(a, b)
 
     def met_in(self, a, b):
         """The number of the first round with a match of a and b; 0 if there's none."""

@@ -37,6 +37,38 @@ def met(a, b):
     return [7, a, b]
 
 
+def left():
+    return [8]
+
+
+def check(*row):
+    return [9, len(row), *row]
+
+
+def points_of(units):
+    return [10, units]
+
+
+def units_of(apart):
+    return [11, apart]
+
+
+def knock(k):
+    return [12, k]
+
+
+def knock_row():
+    return [13]
+
+
+def win(team):
+    return [14, team]
+
+
+def round_of(number):
+    return [15, number]
+
+
 def ask(*calls):
     """The answers to a line of calls, each a list; the line itself must be left as it was."""
     line = [number for call in calls for number in call]
@@ -86,3 +118,25 @@ def all_rounds(n):
     for number, row in enumerate(circle(n), start=1):
         calls += played(number, row)
     return calls
+
+
+# The standing is 5 1 2 3 4 6 with 24 24 24 20 20 8 points. What is possible, and its cost:
+# 5-1 2-6 3-4: 256; 5-2 1-3 4-6: 160; 5-4 1-2 3-6: 160; 5-4 1-3 2-6: 288.
+UNLIKE_EVEN = [
+    teams(6),
+    own(1, 4, 2, 3, 5, 6), result(1, 1, 4, 0), result(1, 2, 3, 4), result(1, 5, 6, 16),
+    own(1, 6, 2, 4, 3, 5), result(2, 1, 6, 4), result(2, 2, 4, 0), result(2, 3, 5, 4),
+]
+# The standing is 3 5 1 2 4 7 6 with 28 24 24 22 20 16 10 points; 7 and 1 have sat out.
+UNLIKE_ODD = [
+    teams(7),
+    own(1, 2, 3, 4, 5, 6), result(1, 1, 2, 1), result(1, 3, 4, 1), result(1, 5, 6, 9),
+    own(2, 6, 3, 7, 4, 5), result(2, 2, 6, 4), result(2, 3, 7, 9), result(2, 4, 5, 1),
+]
+# All who have not met stand within 1 2 3 or within 4 5 6: two threes, no pairing.
+TWO_THREES = [
+    teams(6),
+    *played(1, (1, 4, 2, 5, 3, 6)),
+    *played(2, (1, 5, 2, 6, 3, 4)),
+    *played(3, (1, 6, 2, 4, 3, 5)),
+]

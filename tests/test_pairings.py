@@ -4,7 +4,8 @@ import random
 import unittest
 
 from helper import (
-    BIG, all_rounds, ask, circle, draw, last, match, met, own, pair, played, result, standing, teams,
+    BIG, TWO_THREES, UNLIKE_EVEN, UNLIKE_ODD, all_rounds, ask, circle, draw, last, match, met, own, pair, played,
+    result, standing, teams,
 )
 
 # 9 has not sat out, but 1 to 8 have no pairing left; nor have 1 and 2 sat out.
@@ -16,26 +17,6 @@ NO_PAIRING_WITHOUT_9 = [
     *played(4, (5, 9, 3, 7, 1, 6, 8, 2)),
     *played(5, (8, 9, 7, 6, 2, 1, 4, 5)),
     *played(6, (7, 9, 5, 1, 3, 6, 4, 2)),
-]
-# The standing is 5 1 2 3 4 6 with 24 24 24 20 20 8 points. What is possible, and its cost:
-# 5-1 2-6 3-4: 256; 5-2 1-3 4-6: 160; 5-4 1-2 3-6: 160; 5-4 1-3 2-6: 288.
-UNLIKE_EVEN = [
-    teams(6),
-    own(1, 4, 2, 3, 5, 6), result(1, 1, 4, 0), result(1, 2, 3, 4), result(1, 5, 6, 16),
-    own(1, 6, 2, 4, 3, 5), result(2, 1, 6, 4), result(2, 2, 4, 0), result(2, 3, 5, 4),
-]
-# The standing is 3 5 1 2 4 7 6 with 28 24 24 22 20 16 10 points; 7 and 1 have sat out.
-UNLIKE_ODD = [
-    teams(7),
-    own(1, 2, 3, 4, 5, 6), result(1, 1, 2, 1), result(1, 3, 4, 1), result(1, 5, 6, 9),
-    own(2, 6, 3, 7, 4, 5), result(2, 2, 6, 4), result(2, 3, 7, 9), result(2, 4, 5, 1),
-]
-# All who have not met stand within 1 2 3 or within 4 5 6: two threes, no pairing.
-TWO_THREES = [
-    teams(6),
-    *played(1, (1, 4, 2, 5, 3, 6)),
-    *played(2, (1, 5, 2, 6, 3, 4)),
-    *played(3, (1, 6, 2, 4, 3, 5)),
 ]
 
 

@@ -2,7 +2,10 @@
 
 import unittest
 
-from helper import BIG, ask, draw, last, match, met, own, pair, played, result, standing, teams
+from helper import (
+    BIG, ask, check, draw, knock, knock_row, last, left, match, met, own, pair, played, points_of, result, round_of,
+    standing, teams, units_of, win,
+)
 
 
 class Teams(unittest.TestCase):
@@ -36,22 +39,36 @@ class Teams(unittest.TestCase):
         self.assertEqual(last(*old, teams(3), standing()), [0, 3, 1, 0, 0, 0, 2, 0, 0, 0, 3, 0, 0, 0])
         self.assertEqual(last(*old, teams(3), pair(0)), [0, 3, 1, 1, 2])
 
+    def test_new_event_has_no_knock_out(self):
+        old = [teams(4), knock(4), win(1)]
+        self.assertEqual(ask(*old, teams(4), knock_row(), win(2), round_of(1), left())[4:], [[-4], [-4], [-5], [0, 3]])
+
+    def test_refused_leaves_the_knock_out(self):
+        old = [teams(4), knock(4), win(1)]
+        self.assertEqual(ask(*old, teams(1), knock_row(), win(2))[4:], [[0, 4, 1, 4, 2, 3, 1, 1], [0, 2, 0]])
+
     def test_new_event_of_another_size(self):
         self.assertEqual(last(teams(12), teams(2), own(1, 3)), [-6])
         self.assertEqual(last(teams(2), teams(4), own(3, 4, 2, 1)), [0, 1])
 
     def test_no_teams(self):
-        calls = (pair(0), draw(1), own(), own(1, 2), match(1, 2, 0, 0), result(1, 1, 2, 0), standing(), met(1, 2))
+        calls = (
+            pair(0), draw(1), own(), own(1, 2), match(1, 2, 0, 0), result(1, 1, 2, 0), standing(), met(1, 2),
+            left(), check(), check(1, 2), knock(2), knock_row(), win(1), round_of(1),
+        )
         for call in calls:
             self.assertEqual(ask(call, teams(2), standing()), [[-2], [0], [0, 2, 1, 0, 0, 0, 2, 0, 0, 0]])
 
     def test_range_ahead_of_no_teams(self):
         calls = (
             pair(2), draw(-1), own(1), own(1, 13), match(0, 1, 0, 0), match(1, 2), result(0, 1, 2, 0),
-            result(1, 1, 2, 769), met(1, 13),
+            result(1, 1, 2, 769), met(1, 13), check(1), check(1, 13), knock(1), win(13), round_of(12),
         )
         for call in calls:
             self.assertEqual(ask(call, standing()), [[-1], [-2]])
+
+    def test_answered_without_teams(self):
+        self.assertEqual(ask(points_of(1), units_of(20), teams(2)), [[0, 12, 8], [0, 1], [0]])
 
 
 if __name__ == "__main__":

@@ -2,14 +2,18 @@
 
 import unittest
 
-from helper import ask, draw, match, met, own, pair, result, standing, teams
+from helper import (
+    ask, check, draw, knock, knock_row, left, match, met, own, pair, points_of, result, round_of, standing, teams,
+    units_of, win,
+)
 from teamrounds.event import answers
 
-# Each of the other calls, once as it may be and once out of its range.
+# Calls that leave the rounds as they are, once as they may be and once out of their range.
 OTHER_CALLS = (
-    [8], [9, 0], [9, 4, 1, 2, 3, 4], [9, 3, 7, 7, 7], [9, 30] + [6] * 30, [10, 0], [10, 769], [11, 6], [11, -20001],
-    [12, 2], [12, 13], [13], [14, 1], [14, 0], [15, 1], [15, 12],
+    left(), check(), check(1, 2, 3, 4), check(7, 7, 7), check(*[6] * 30), points_of(0), points_of(769), units_of(6),
+    units_of(-20001), knock(2), knock(13), knock_row(), win(1), win(0), round_of(1), round_of(12),
 )
+
 
 
 class Walk(unittest.TestCase):
@@ -29,10 +33,12 @@ class Walk(unittest.TestCase):
         self.assertEqual(line, before)
 
     def test_the_same_again(self):
-        line = teams(5) + draw(0) + standing() + match(1, 2, 600, 0) + pair(0) + met(1, 2)
+        line = teams(5) + draw(0) + standing() + match(1, 2, 600, 0) + pair(0) + met(1, 2) + left() + knock(5) + win(4)
+        line += win(5) + knock_row() + round_of(1) + check(1, 4, 2, 3)
         first = answers(line)
         self.assertEqual(answers(line), first)
         self.assertEqual(answers(standing()), [1, -2])
+        self.assertEqual(answers(teams(5) + knock_row() + round_of(1)), [1, 0, 1, -4, 1, -5])
         self.assertEqual(answers(list(line)), first)
 
     def test_row_of_a_refused_call(self):
@@ -61,6 +67,18 @@ class Walk(unittest.TestCase):
         self.assertEqual(told, [[0]] + [[-5]] * 199)
         told = ask(teams(12), own(*range(1, 13)), *[standing()] * 198)
         self.assertEqual(told[2:], [told[2]] * 198)
+        told = ask(teams(12), *[knock(12), win(9)] * 99, knock_row())
+        self.assertEqual(told[1:-1], [[0, 16], [0, 16, 0]] * 99)
+
+    def test_whole_numbers_alone(self):
+        calls = [
+            teams(5), draw(0), match(1, 2, 50, 0), standing(), met(1, 2), left(), check(1, 3, 2, 5), check(1, 2),
+            points_of(0), units_of(0), knock(5), win(4), knock_row(), round_of(1), result(1, 3, 4, 0), pair(1),
+            own(1, 3, 2, 5), own(1, 2), win(1),
+        ]
+        told = answers([number for call in calls for number in call])
+        self.assertIs(type(told), list)
+        self.assertEqual({type(number) for number in told}, {int})
 
 
 if __name__ == "__main__":
